@@ -9,7 +9,6 @@ class InvalidFraction(MeanError):
     """A value that is no fraction, or none of the told size."""
 
     def __init__(self, given):
-        super().__init__("no fraction as it is told")
         self.given = given
 
 
@@ -17,7 +16,6 @@ class InvalidNumber(MeanError):
     """A value that is no whole number, or none of the told size."""
 
     def __init__(self, given):
-        super().__init__("no whole number as it is told")
         self.given = given
 
 
@@ -25,7 +23,6 @@ class InvalidPair(MeanError):
     """A value that is no pair of fractions."""
 
     def __init__(self, given):
-        super().__init__("no pair of fractions")
         self.given = given
 
 
@@ -33,7 +30,6 @@ class InvalidTable(MeanError):
     """A value that is no table."""
 
     def __init__(self, given):
-        super().__init__("no table")
         self.given = given
 
 
@@ -41,7 +37,6 @@ class InvalidGame(MeanError):
     """A value that is no game."""
 
     def __init__(self, given):
-        super().__init__("no game")
         self.given = given
 
 
@@ -49,7 +44,6 @@ class InvalidSide(MeanError):
     """A value that is no side."""
 
     def __init__(self, given):
-        super().__init__("no side")
         self.given = given
 
 
@@ -57,7 +51,6 @@ class InvalidField(MeanError):
     """A value that is no field."""
 
     def __init__(self, given):
-        super().__init__("no field")
         self.given = given
 
 
@@ -65,7 +58,6 @@ class InvalidPlan(MeanError):
     """A value that is no plan, or no telling."""
 
     def __init__(self, given):
-        super().__init__("no plan as it is told")
         self.given = given
 
 
@@ -73,7 +65,6 @@ class InvalidMix(MeanError):
     """A value that is no mix of so many."""
 
     def __init__(self, index):
-        super().__init__("no mix of so many")
         self.index = index
 
 
@@ -81,7 +72,6 @@ class InvalidPlays(MeanError):
     """A value that is no plays."""
 
     def __init__(self, index):
-        super().__init__("no plays")
         self.index = index
 
 
@@ -89,7 +79,6 @@ class InvalidColumns(MeanError):
     """A value that is no tuple of indexes of columns."""
 
     def __init__(self, index):
-        super().__init__("no columns as they are told")
         self.index = index
 
 
@@ -97,7 +86,6 @@ class InvalidWeights(MeanError):
     """A value that is no weights, or widths, of the told form."""
 
     def __init__(self, index):
-        super().__init__("no weights as they are told")
         self.index = index
 
 
@@ -105,7 +93,6 @@ class InvalidShares(MeanError):
     """A value that is no shares."""
 
     def __init__(self, index):
-        super().__init__("no shares")
         self.index = index
 
 
@@ -113,7 +100,6 @@ class InvalidRounds(MeanError):
     """A value that is no rounds."""
 
     def __init__(self, index):
-        super().__init__("no rounds")
         self.index = index
 
 
@@ -121,7 +107,6 @@ class InvalidDays(MeanError):
     """A value that is no days, or no rains."""
 
     def __init__(self, index):
-        super().__init__("no days as they are told")
         self.index = index
 
 

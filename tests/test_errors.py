@@ -1,7 +1,5 @@
 """Point 4 and steermeans/errors.py."""
 
-import copy
-import pickle
 import unittest
 
 from steermeans import errors
@@ -82,12 +80,6 @@ class ErrorsTest(unittest.TestCase):
             self.assertEqual(getattr(errors, name).__module__, "steermeans.errors")
         for name in GIVEN + INDEX:
             self.assertIn("__init__", vars(getattr(errors, name)))
-
-    def test_errors_are_copied_with_what_they_keep(self):
-        for made in (errors.InvalidTable(given=[1]), errors.InvalidMix(2), errors.EmptyField()):
-            for again in (copy.copy(made), pickle.loads(pickle.dumps(made))):
-                self.assertIs(type(again), type(made))
-                self.assertEqual(vars(again), vars(made))
 
 
 if __name__ == "__main__":

@@ -11,7 +11,7 @@ FOLDER = Path(__file__).resolve().parent.parent / "steermeans"
 LIBRARY = {"math": {"gcd", "lcm", "isqrt", "comb", "perm", "factorial"},
            "itertools": {"combinations", "permutations", "product"}}
 BUILTINS = set("len range enumerate zip min max sum abs sorted reversed int str bool list tuple dict set isinstance ord "
-               "repr any all divmod type super ValueError KeyError IndexError".split())
+               "repr any all divmod type ValueError KeyError IndexError".split())
 METHODS = set("append clear copy count endswith extend find get index insert items join keys pop remove replace reverse "
               "setdefault sort split startswith strip update values bit_length add discard __init__".split())
 STATEMENTS = (ast.Assign, ast.AugAssign, ast.If, ast.While, ast.For, ast.Return, ast.Break, ast.Continue, ast.Pass,
