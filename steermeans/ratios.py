@@ -14,6 +14,11 @@ def plus(one, two):
     return ratio(one[0] * two[1] + two[0] * one[1], one[1] * two[1])
 
 
+def minus(one, two):
+    """The first fraction less the second one."""
+    return ratio(one[0] * two[1] - two[0] * one[1], one[1] * two[1])
+
+
 def times(one, two):
     """The product of two fractions."""
     return ratio(one[0] * two[0], one[1] * two[1])
@@ -48,3 +53,15 @@ def common_scale(fractions):
 def scaled(fraction, scale):
     """The whole number that a fraction becomes, times a scale that makes it whole."""
     return fraction[0] * (scale // fraction[1])
+
+
+def least_of(fractions):
+    """The least of some fractions."""
+    scale = common_scale(fractions)
+    return ratio(min([scaled(number, scale) for number in fractions]), scale)
+
+
+def greatest_of(fractions):
+    """The greatest of some fractions."""
+    scale = common_scale(fractions)
+    return ratio(max([scaled(number, scale) for number in fractions]), scale)

@@ -96,12 +96,50 @@ def settling_weights(whole):
             return low, high
 
 
+def whole_table(table):
+    """A table times the least number above 0 that makes it whole, and this number."""
+    scale = common_scale([number for row in table for number in row])
+    return [[scaled(number, scale) for number in row] for row in table], scale
+
+
+def mix_of(weights):
+    """Weights divided by their sum, which is above 0."""
+    count = sum(weights)
+    return tuple([ratio(weight, count) for weight in weights])
+
+
 def solution(table):
     """The worth of a table, a low mix and a high mix."""
-    scale = common_scale([number for row in table for number in row])
-    whole = [[scaled(number, scale) for number in row] for row in table]
+    whole, scale = whole_table(table)
     low, high = settling_weights(whole)
-    count = sum(low)
-    low_parts = tuple([ratio(weight, count) for weight in low])
-    high_parts = tuple([ratio(weight, count) for weight in high])
-    return ratio(least_row(whole, high), count * scale), low_parts, high_parts
+    return ratio(least_row(whole, high), sum(high) * scale), mix_of(low), mix_of(high)
+
+
+def keeping(table):
+    """A mix of rows that keeps each column of a table at most 0; None."""
+    most, low, _ = solution(table)
+    return low if most[0] <= 0 else None
+
+
+def rounded(weights, bits):
+    """Weights with a power of two as their sum, near to some weights from 0 on."""
+    count = sum(weights)
+    ahead = 0
+    marks = [0]
+    for weight in weights:
+        ahead += weight
+        marks.append(((ahead << (bits + 1)) + count) // (2 * count))
+    return [high - low for low, high in zip(marks, marks[1:])]
+
+
+def plain_keeping(table):
+    """A mix of rows that keeps each column of a table at most 0, of small numbers if they are enough; None."""
+    whole, _ = whole_table(table)
+    low, high = settling_weights(whole)
+    if least_row(whole, high) > 0:
+        return None
+    for bits in (0, 1, 2, 4, 8, 16, 32, 64):
+        plain = rounded(low, bits)
+        if greatest_column(whole, plain) <= 0:
+            return mix_of(plain)
+    return mix_of(low)

@@ -98,6 +98,24 @@ class LanguageTest(unittest.TestCase):
             elif isinstance(node.func, ast.Name) and node.func.id in BUILTINS:
                 self.assertLessEqual({word.arg for word in node.keywords}, {"key", "reverse", "default", "start"}, where)
 
+    def test_l2_l23_l24_iterated_at_once(self):
+        lazy = {"zip", "enumerate", "reversed", "range", "combinations", "permutations", "product"}
+        takers = {"list", "tuple", "dict", "sorted", "sum", "any", "all", "min", "max", "enumerate", "zip", "combinations"}
+        for name, tree in self.trees.items():
+            heads = {id(node.iter) for node in ast.walk(tree) if isinstance(node, (ast.For, ast.comprehension))}
+            taken, sorted_at = set(), set()
+            for node in ast.walk(tree):
+                if isinstance(node, ast.Call) and isinstance(node.func, ast.Name) and node.args:
+                    taken |= {id(node.args[0])} if node.func.id in takers else set()
+                    sorted_at |= {id(node.args[0])} if node.func.id in ("sorted", "len") else set()
+            for node in ast.walk(tree):
+                if isinstance(node, ast.Call) and isinstance(node.func, ast.Name):
+                    if node.func.id in lazy:
+                        self.assertIn(id(node), heads | taken, f"{name}:{node.lineno}")
+                    if node.func.id == "set":
+                        self.assertIn(id(node), sorted_at, f"{name}:{node.lineno}")
+        self.assertFalse([where for where, _ in self.nodes((ast.GeneratorExp, ast.Set, ast.SetComp, ast.NamedExpr))])
+
     def test_l12_l15_names(self):
         for name, tree in self.trees.items():
             taken = {node.name for node in tree.body if isinstance(node, ast.ClassDef)}
