@@ -2,9 +2,9 @@
 
 from math import gcd
 
-from steermeans.errors import (InvalidColumns, InvalidFraction, InvalidMix, InvalidNumber, InvalidPair, InvalidPlays,
-                               InvalidSide, InvalidWeights)
-from steermeans.ratios import at_most, total
+from steermeans.errors import (InvalidColumns, InvalidDays, InvalidFraction, InvalidMix, InvalidNumber, InvalidPair,
+                               InvalidPlays, InvalidRounds, InvalidShares, InvalidSide, InvalidWeights)
+from steermeans.ratios import total
 
 
 def is_whole(value):
@@ -40,9 +40,14 @@ def is_side(value):
     return are_fractions(value, 3, 3) and (value[0][0] != 0 or value[1][0] != 0)
 
 
+def are_not_below_nil(value, many):
+    """Whether a value, whatever it is, is a tuple of so many fractions from 0 on."""
+    return are_fractions(value, many, many) and all([number[0] >= 0 for number in value])
+
+
 def is_mix(value, many):
     """Whether a value, whatever it is, is a mix of so many."""
-    return are_fractions(value, many, many) and all([part[0] >= 0 for part in value]) and total(value) == (1, 1)
+    return are_not_below_nil(value, many) and total(value) == (1, 1)
 
 
 def is_index(value, many):
@@ -73,9 +78,20 @@ def check_side(side):
         raise InvalidSide(side)
 
 
+def check_fraction(fraction):
+    """Raise InvalidFraction for what is no fraction."""
+    if not is_fraction(fraction):
+        raise InvalidFraction(fraction)
+
+
+def is_share(value):
+    """Whether a value, whatever it is, is a fraction from 0 to 1."""
+    return is_fraction(value) and 0 <= value[0] <= value[1]
+
+
 def check_share(share):
     """Raise InvalidFraction for what is no fraction from 0 to 1."""
-    if not is_fraction(share) or share[0] < 0 or not at_most(share, (1, 1)):
+    if not is_share(share):
         raise InvalidFraction(share)
 
 
@@ -115,3 +131,70 @@ def check_columns(columns, many, most):
     for at, column in enumerate(columns):
         if at == most or not is_index(column, many):
             raise InvalidColumns(at)
+
+
+def check_columns_along(columns, many, levels):
+    """Raise InvalidColumns for what is no tuple of an index of one of so many columns for each of so many levels."""
+    if not is_tuple_of(columns, levels, levels):
+        raise InvalidColumns(None)
+    check_columns(columns, many, levels)
+
+
+def is_grid(value, height, width):
+    """Whether a value, whatever it is, is a tuple of so many rows, each a tuple of so many things."""
+    return is_tuple_of(value, height, height) and all([is_tuple_of(row, width, width) for row in value])
+
+
+def check_shares(shares, height, width):
+    """Raise InvalidShares for what is no rows of fractions from 0 on, of this size, with the sum 1."""
+    if not is_grid(shares, height, width):
+        raise InvalidShares(None)
+    for at, row in enumerate(shares):
+        if not are_not_below_nil(row, width):
+            raise InvalidShares(at)
+    if total([share for row in shares for share in row]) != (1, 1):
+        raise InvalidShares(None)
+
+
+def check_weights(weights, height, width):
+    """Raise InvalidWeights for what is no rows of fractions of this size."""
+    if not is_grid(weights, height, width):
+        raise InvalidWeights(None)
+    for at, row in enumerate(weights):
+        if not are_fractions(row, width, width):
+            raise InvalidWeights(at)
+
+
+def are_two_mixes(value, height, width):
+    """Whether a value, whatever it is, is a pair of a mix of so many and another one of so many."""
+    return is_tuple_of(value, 2, 2) and is_mix(value[0], height) and is_mix(value[1], width)
+
+
+def check_rounds(rounds):
+    """Raise InvalidRounds for what is no tuple of 1 to 40 pairs of mixes of one size."""
+    if type(rounds) is not tuple or len(rounds) == 0:
+        raise InvalidRounds(None)
+    first = rounds[0]
+    if not is_tuple_of(first, 2, 2) or not all([is_tuple_of(mix, 1, 4) for mix in first]):
+        raise InvalidRounds(0)
+    for at, element in enumerate(rounds):
+        if at == 40 or not are_two_mixes(element, len(first[0]), len(first[1])):
+            raise InvalidRounds(at)
+
+
+def check_days(days, many):
+    """Raise InvalidDays for what is no tuple of up to 40 pairs of a mix of so many and 0 or 1."""
+    if type(days) is not tuple:
+        raise InvalidDays(None)
+    for at, element in enumerate(days):
+        if at == 40 or not is_round(element, many, 2):
+            raise InvalidDays(at)
+
+
+def check_rains(rains, levels):
+    """Raise InvalidDays for what is no tuple of 0 or 1 for each of so many levels."""
+    if not is_tuple_of(rains, levels, levels):
+        raise InvalidDays(None)
+    for at, rain in enumerate(rains):
+        if not is_index(rain, 2):
+            raise InvalidDays(at)

@@ -65,3 +65,20 @@ def greatest_of(fractions):
     """The greatest of some fractions."""
     scale = common_scale(fractions)
     return ratio(max([scaled(number, scale) for number in fractions]), scale)
+
+
+def plain_numbers(fractions):
+    """Some fractions times one above 0 that makes them whole, without a common divisor; and this one."""
+    scale = common_scale(fractions)
+    numbers = [scaled(number, scale) for number in fractions]
+    shared = 0
+    for number in numbers:
+        shared = gcd(shared, number)
+    if shared == 0:
+        return numbers, (1, 1)
+    return [number // shared for number in numbers], ratio(scale, shared)
+
+
+def divided(one, two):
+    """The first fraction divided by the second one, which is above 0."""
+    return ratio(one[0] * two[1], one[1] * two[0])

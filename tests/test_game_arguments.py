@@ -4,7 +4,8 @@ import unittest
 
 from steermeans import games, leading, runs
 from steermeans.errors import (EmptyField, InvalidColumns, InvalidField, InvalidFraction, InvalidGame, InvalidMix,
-                               InvalidNumber, InvalidPair, InvalidPlays, InvalidSide, InvalidWeights, MeanError, NotLed)
+                               InvalidNumber, InvalidPair, InvalidPlays, InvalidSide, InvalidWeights, NotLed)
+from tests.calls import EMPTY, CallsCheck, given, index
 from tests.helper import strange, wrong_fractions
 from tests.test_arguments import wrong_fields, wrong_mixes, wrong_places
 
@@ -13,7 +14,6 @@ PLACE = (HALF, TWO)
 # two rows and three columns, so that a mix of rows is none of columns
 GAME = (((NIL, NIL), (ONE, NIL), (NIL, NIL)), ((ONE, NIL), (ONE, ONE), (HALF, HALF)))
 FIELD = ((LESS, NIL, (-1, 2)), (NIL, ONE, TWO))
-EMPTY = ((ONE, NIL, NIL), (LESS, NIL, LESS))
 BARRED = ((ONE, NIL, (-5, 1)),)
 SIDE = FIELD[0]
 ROWS, COLUMNS = (HALF, HALF), (HALF, NIL, HALF)
@@ -107,16 +107,6 @@ def wrong_widths():
     return told
 
 
-def given(error, values):
-    """What is expected for wrong values whose error keeps them."""
-    return [(value, error, "given", value) for value in values]
-
-
-def index(error, told):
-    """What is expected for wrong values whose error tells an index."""
-    return [(value, error, "index", at) for value, at in told]
-
-
 WRONG = {
     "game": given(InvalidGame, wrong_games()),
     "field": given(InvalidField, wrong_fields()),
@@ -134,32 +124,8 @@ WRONG["one"] = WRONG["two"] = WRONG["side"]
 WRONG["other"] = WRONG["mix of columns"]
 
 
-def name_of(parameter):
-    return parameter.split(" ")[0]
-
-
-class GameArgumentsTest(unittest.TestCase):
-    def check_error(self, told, function, *arguments, **named):
-        """The error is just the one that is told, with its attribute."""
-        _, error, attribute, expected = told
-        with self.assertRaises(MeanError) as caught:
-            function(*arguments, **named)
-        self.assertIs(type(caught.exception), error, (function, arguments))
-        kept = getattr(caught.exception, attribute)
-        self.assertTrue(kept is expected or (type(kept) is int and kept == expected), (function, arguments, kept))
-        self.assertEqual(list(vars(caught.exception)), [attribute])
-
-    def test_the_same_calls_with_good_arguments_answer(self):
-        for function, parameters, good in CALLS:
-            names = [name_of(parameter) for parameter in parameters]
-            self.assertEqual(function(*good), function(**dict(zip(names, good))))
-            self.assertEqual(function(*good), function(**dict(list(zip(names, good))[::-1])))
-
-    def test_each_parameter_has_its_name_and_its_place(self):
-        for function, parameters, _ in CALLS:
-            code = function.__code__
-            self.assertEqual(list(code.co_varnames[:code.co_argcount]), [name_of(told) for told in parameters])
-            self.assertIsNone(function.__defaults__)
+class GameArgumentsTest(CallsCheck, unittest.TestCase):
+    calls, wrong = CALLS, WRONG
 
     def test_each_function_is_defined_in_its_file(self):
         for module, names in [(games, "is_game worth_of row_worths column_worths turned excess tilted"),
@@ -168,42 +134,6 @@ class GameArgumentsTest(unittest.TestCase):
                               (runs, "mean_of guiding_mix is_guiding first_unguided reach_sum round_bound steered")]:
             for name in names.split():
                 self.assertEqual(getattr(module, name).__module__, module.__name__)
-
-    def test_wrong_values_of_each_argument(self):
-        for function, parameters, good in CALLS:
-            for at, parameter in enumerate(parameters):
-                for told in WRONG[parameter]:
-                    self.check_error(told, function, *good[:at], told[0], *good[at + 1:])
-
-    def test_wrong_values_by_name(self):
-        for function, parameters, good in CALLS:
-            names = [name_of(parameter) for parameter in parameters]
-            for at, parameter in enumerate(parameters):
-                for told in WRONG[parameter][::29]:
-                    self.check_error(told, function, **{**dict(zip(names, good)), names[at]: told[0]})
-
-    def test_of_wrong_arguments_the_first_is_told(self):
-        for function, parameters, good in CALLS:
-            for at, parameter in enumerate(parameters):
-                for later in range(at + 1, len(parameters)):
-                    for told, other in zip(WRONG[parameter][::17], WRONG[parameters[later]][::13] * 9):
-                        arguments = list(good)
-                        arguments[at], arguments[later] = told[0], other[0]
-                        self.check_error(told, function, *arguments)
-                for told in WRONG[parameter][::23]:
-                    self.check_error(told, function, *good[:at], told[0], *[None] * (len(good) - at - 1))
-
-    def test_an_empty_field_is_told_behind_all_other_errors(self):
-        for function, parameters, good in CALLS:
-            if "field" in parameters:
-                empty = [EMPTY if parameter == "field" else told for parameter, told in zip(parameters, good)]
-                with self.assertRaises(EmptyField) as caught:
-                    function(*empty)
-                self.assertEqual(vars(caught.exception), {})
-                for at, parameter in enumerate(parameters):
-                    if parameter != "field":
-                        for told in WRONG[parameter][::7]:
-                            self.check_error(told, function, *empty[:at], told[0], *empty[at + 1:])
 
     def test_a_barred_field_is_told_behind_an_empty_one(self):
         for columns in ((), (0,), (2,) * 8):
@@ -265,23 +195,6 @@ class GameArgumentsTest(unittest.TestCase):
         leading.is_led(((again,),), field)
         runs.guiding_mix(game, field, again)
         runs.mean_of(game, ((mix, 0), (mix, 1)))
-
-    def test_deep_values(self):
-        deep = ONE
-        for _ in range(12):
-            deep = (deep, deep)
-        for function, parameters, good in CALLS:
-            for at, parameter in enumerate(parameters):
-                with self.assertRaises(MeanError):
-                    function(*good[:at], deep, *good[at + 1:])
-
-    def test_arguments_are_left_as_they_are(self):
-        rows = [[[1, 1], TWO], {"a": [3]}]
-        for function, parameters, good in CALLS:
-            for at in range(len(parameters)):
-                with self.assertRaises(MeanError):
-                    function(*good[:at], rows, *good[at + 1:])
-                self.assertEqual(rows, [[[1, 1], TWO], {"a": [3]}])
 
 
 if __name__ == "__main__":

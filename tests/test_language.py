@@ -15,7 +15,7 @@ BUILTINS = set("len range enumerate zip min max sum abs sorted reversed int str 
 METHODS = set("append clear copy count endswith extend find get index insert items join keys pop remove replace reverse "
               "setdefault sort split startswith strip update values bit_length add discard __init__".split())
 STATEMENTS = (ast.Assign, ast.AugAssign, ast.If, ast.While, ast.For, ast.Return, ast.Break, ast.Continue, ast.Pass,
-              ast.Raise, ast.Assert, ast.Expr, ast.FunctionDef, ast.ClassDef, ast.ImportFrom)
+              ast.Raise, ast.Assert, ast.Expr, ast.FunctionDef, ast.ClassDef, ast.ImportFrom, ast.Try)
 BARRED = set("type typing typing_extensions enum Enum IntEnum StrEnum Flag IntFlag Generic Protocol ABC ABCMeta "
              "namedtuple NamedTuple TypedDict TYPE_CHECKING abstractmethod mro elements open input law version_info "
              "with_traceback add_note register attrgetter breakpoint builtins compile copyright credits delattr dir eval "
@@ -71,9 +71,44 @@ class LanguageTest(unittest.TestCase):
             self.assertIsNotNone(ast.get_docstring(tree), name)
             bound = []
             for node in tree.body[1:]:
+                if isinstance(node, ast.Assign):
+                    self.check_plain_dict(node.value, bound, f"{name}:{node.lineno}")
+                    bound += [target.id for target in node.targets]
+                    self.assertEqual(len(node.targets), 1, f"{name}:{node.lineno}")
+                    continue
                 self.assertIsInstance(node, (ast.ImportFrom, ast.FunctionDef, ast.ClassDef), f"{name}:{node.lineno}")
                 bound += [alias.name for alias in node.names] if isinstance(node, ast.ImportFrom) else [node.name]
             self.assertEqual(len(bound), len(set(bound)), name)
+
+    def check_plain_dict(self, value, bound, where):
+        """A dict of texts, with numbers and functions that stand above it."""
+        self.assertIsInstance(value, ast.Dict, where)
+        self.assertEqual({type(key.value) for key in value.keys}, {str}, where)
+        for told in value.values:
+            if isinstance(told, ast.Name):
+                self.assertIn(told.id, bound, where)
+            else:
+                self.assertIs(type(told.value), int, where)
+
+    def test_l15_dicts_at_module_level_are_only_looked_at(self):
+        for name, tree in self.trees.items():
+            dicts = {node.targets[0].id for node in tree.body if isinstance(node, ast.Assign)}
+            looked = [node.value for node in ast.walk(tree)
+                      if isinstance(node, ast.Subscript) and isinstance(node.ctx, ast.Load)]
+            looked += [told for node in ast.walk(tree) if isinstance(node, ast.Compare) for told in node.comparators
+                       if isinstance(node.ops[0], (ast.In, ast.NotIn))]
+            for node in ast.walk(tree):
+                if isinstance(node, ast.Name) and node.id in dicts and isinstance(node.ctx, ast.Load):
+                    self.assertIn(node, looked, f"{name}:{node.lineno}")
+
+    def test_l6_l19_only_own_errors_are_caught(self):
+        own = {node.name for node in self.trees["errors.py"].body if isinstance(node, ast.ClassDef)}
+        for where, node in self.nodes(ast.Try):
+            self.assertEqual((node.finalbody, node.orelse), ([], []), where)
+            for handler in node.handlers:
+                self.assertIsInstance(handler.type, ast.Name, where)
+                self.assertIn(handler.type.id, own, where)
+                self.assertIsNone(handler.name, where)
 
     def test_l4_l5_l6_l7_statements_and_expressions(self):
         for where, node in self.nodes(ast.stmt):
