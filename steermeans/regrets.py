@@ -36,7 +36,8 @@ def is_matching(sums, mix):
     """Whether a mix is the matched one where regrets, times a number above 0, are such; any is if none is above 0."""
     above = above_nil(sums)
     count = sum(above)
-    return count == 0 or all([part[0] * count == part[1] * number for part, number in zip(mix, above)])
+    # if none is above 0 there is 0 on both sides
+    return all([part[0] * count == part[1] * number for part, number in zip(mix, above)])
 
 
 def regrets(table, plays):

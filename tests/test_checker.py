@@ -357,6 +357,17 @@ class WideningTest(CheckerTest):
         for told in (-1, 0, 1, 2, False, True):
             self.check_told(("widening", TICK, LEAN, (ONE, ONE), 4, told), (), told == 0 and told is not False)
 
+    def test_what_is_led_by_far_is_not_widened_by_less_than_nothing(self):
+        game, field = told_game([[(0, 0)]]), grid([[1, 0, Fraction(3, 2)]])
+        for told in (-3, -2, -1, 0, 1):
+            self.check_told(("widening", game, field, (ONE,), 1, told), (), told == 0)
+
+    def test_an_empty_field_is_none_though_it_may_be_widened(self):
+        game = told_game([[(3, 0)]])
+        for told in range(-1, 6):
+            self.check_told(("widening", game, EMPTY, (ONE, ONE), 1, told), (), False)
+            self.check_told(("widening", game, QUARTER, (ONE, ONE), 1, told), (), told == 3)
+
     def test_many_and_widths(self):
         for many in (0, -1, 1001, 10 ** 9, True, None, ONE, "4"):
             for least in (0, 1, 2, 500, 501):
